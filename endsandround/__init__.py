@@ -1,0 +1,1 @@
+"""Endsandround: which reorderings of commands never matter to a machine."""

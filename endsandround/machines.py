@@ -1,0 +1,125 @@
+"""Machines, rows of commands, and the effects that rows have."""
+
+from endsandround.common import LotChain, first_not_below, first_row, is_below, is_integer, is_sequence
+from endsandround.errors import InvalidMachine, InvalidRow, Refused
+
+
+class Machine:
+    """A machine: `steps[state][command]` is the next state."""
+
+    def __init__(self, commands, steps):
+        if not is_integer(commands) or commands < 1:
+            raise InvalidMachine(0)
+        if not is_sequence(steps) or len(steps) == 0:
+            raise InvalidMachine(1)
+        for state, entry in enumerate(steps):
+            if not is_sequence(entry) or len(entry) != commands or first_not_below(entry, len(steps)) is not None:
+                raise InvalidMachine(2 + state)
+        self.commands = commands
+        self.states = len(steps)
+        self.steps = tuple(tuple(entry) for entry in steps)
+
+    def __eq__(self, other):
+        return isinstance(other, Machine) and self.commands == other.commands and self.steps == other.steps
+
+
+def checked_row(commands, value):
+    """Any value, a sequence of commands, as a row."""
+    if not is_sequence(value):
+        raise InvalidRow(0)
+    wrong = first_not_below(value, commands)
+    if wrong is not None:
+        raise InvalidRow(wrong)
+    return tuple(value)
+
+
+def end_state(machine, state, row):
+    """The state to which a row leads a state."""
+    if not is_below(state, machine.states):
+        raise Refused(0)
+    for command in checked_row(machine.commands, row):
+        state = machine.steps[state][command]
+    return state
+
+
+def effect(machine, row):
+    """The states to which a row leads each state."""
+    ends = list(range(machine.states))
+    for command in checked_row(machine.commands, row):
+        ends = [machine.steps[state][command] for state in ends]
+    return tuple(ends)
+
+
+def followed(one, other):
+    """The effect of a row with the effect `one` and then a row with the effect `other`."""
+    return tuple(other[state] for state in one)
+
+
+def command_effects(machine):
+    """The effects of the rows of a single command, command by command."""
+    return tuple(tuple(entry[command] for entry in machine.steps) for command in range(machine.commands))
+
+
+def effects_of_length(machine, length):
+    """All effects of the rows of a length."""
+    singles = command_effects(machine)
+    # Effects are numbered as they are met: lots of numbers are compared faster than lots of tuples.
+    effects = [effect(machine, ())]
+    numbers = {effects[0]: 0}
+
+    def number_of(found):
+        if found not in numbers:
+            numbers[found] = len(effects)
+            effects.append(found)
+        return numbers[found]
+
+    def follow(number):
+        return [number_of(followed(effects[number], single)) for single in singles]
+
+    lot = LotChain([0], follow, length).lot(length)
+    return tuple(sorted([effects[number] for number in lot]))
+
+
+def row_for(machine, wanted):
+    """The first of the shortest rows whose effect is any value, or None."""
+    if not isinstance(wanted, tuple) or len(wanted) != machine.states:
+        return None
+    if first_not_below(wanted, machine.states) is not None:
+        return None
+    singles = command_effects(machine)
+    return first_row(
+        effect(machine, ()),
+        lambda found: [followed(found, single) for single in singles],
+        lambda found: found == wanted,
+    )
+
+
+def reached_in_order(machine, start):
+    """All states to which a state is led, in the order of the first of the shortest rows that do it."""
+    found = [start]
+    seen = {start: True}
+    at = 0
+    while at < len(found):
+        for state in machine.steps[found[at]]:
+            if state not in seen:
+                seen[state] = True
+                found.append(state)
+        at += 1
+    return found
+
+
+def reached(machine, start):
+    """All states to which a state is led by some row."""
+    return tuple(sorted(reached_in_order(machine, start)))
+
+
+def reaching_row(machine, start, state):
+    """The first of the shortest rows that lead one state to another."""
+    row = first_row(
+        start,
+        lambda found: machine.steps[found],
+        lambda found: found == state,
+    )
+    if row is None:
+        raise Refused(0)
+    return row

@@ -1,0 +1,140 @@
+"""Slow, plain answers to compare with, found by trying all rows; and machines to try them on."""
+
+from itertools import permutations, product
+from random import Random
+
+from endsandround.machines import Machine
+
+
+def rows(commands, length):
+    return list(product(range(commands), repeat=length))
+
+
+def run(machine, state, row):
+    for command in row:
+        state = machine.steps[state][command]
+    return state
+
+
+def effect(machine, row):
+    return tuple(run(machine, state, row) for state in range(machine.states))
+
+
+def moved(row, reordering):
+    result = [None] * len(row)
+    for place, entry in zip(reordering, row):
+        result[place] = entry
+    return tuple(result)
+
+
+def swapped(row, i, j):
+    entries = list(row)
+    entries[i], entries[j] = entries[j], entries[i]
+    return tuple(entries)
+
+
+def behind(machine, count):
+    found = {run(machine, s, row) for row in rows(machine.commands, count) for s in range(machine.states)}
+    return tuple(sorted(found))
+
+
+def are_joined(machine, one, other, count):
+    return all(run(machine, one, row) == run(machine, other, row) for row in rows(machine.commands, count))
+
+
+def gap_pairs(machine, before, a, c, gap):
+    found = set()
+    for state in behind(machine, before):
+        for row in rows(machine.commands, gap):
+            found.add((run(machine, state, (a, *row)), run(machine, state, (c, *row))))
+    return tuple(sorted(found))
+
+
+def is_harmless(machine, reordering):
+    return all(
+        effect(machine, row) == effect(machine, moved(row, reordering))
+        for row in rows(machine.commands, len(reordering))
+    )
+
+
+def may_exchange(machine, before, step, after):
+    return all(
+        effect(machine, row) == effect(machine, swapped(row, before, before + step))
+        for row in rows(machine.commands, before + step + 1 + after)
+    )
+
+
+def is_allowed(triple, reordering):
+    if triple is None:
+        return reordering == tuple(range(len(reordering)))
+    first, last, step = triple
+    many = len(reordering)
+    for at, place in enumerate(reordering):
+        if at != place and (at < first or at >= many - last or (at - place) % step):
+            return False
+    return True
+
+
+def reorderings(many):
+    return list(permutations(range(many)))
+
+
+def random_machines(seed, many, commands=(1, 2, 3), states=(1, 2, 3, 4)):
+    random = Random(seed)
+    for _ in range(many):
+        a = random.choice(commands)
+        n = random.choice(states)
+        yield Machine(a, [[random.randrange(n) for _ in range(a)] for _ in range(n)])
+
+
+def near_machines(seed, many, commands=(2, 3), states=(2, 3, 4, 5)):
+    """Machines whose commands do nearly the same, so that many of them have numbers."""
+    random = Random(seed)
+    for _ in range(many):
+        a = random.choice(commands)
+        n = random.choice(states)
+        base = [random.randrange(n) for _ in range(n)] if random.random() < 0.5 else random.sample(range(n), n)
+        steps = [[base[state]] * a for state in range(n)]
+        for command in range(1, a):
+            steps[random.randrange(n)][command] = random.randrange(n)
+        yield Machine(a, steps)
+
+
+def small_machines():
+    """All machines of one or two commands and at most two states, and some with three."""
+    for a, n in ((1, 1), (1, 2), (2, 1), (2, 2), (1, 3)):
+        for flat in product(range(n), repeat=a * n):
+            yield Machine(a, [flat[a * s:a * s + a] for s in range(n)])
+    for at, flat in enumerate(product(range(3), repeat=6)):
+        if at % 4 == 0:
+            yield Machine(2, [flat[2 * s:2 * s + 2] for s in range(3)])
+
+
+def wheel(step):
+    """A machine with the numbers (0, 0, step), as steps."""
+    steps = []
+    for state in range(2 * step):
+        place, bit = divmod(state, 2)
+        onward = 2 * ((place + 1) % step)
+        steps.append((onward + bit, onward + ((1 - bit) if place == 0 else bit)))
+    return steps
+
+
+def first_memory(first):
+    """A machine with the numbers (first, 0, 1), as steps."""
+    steps = [(state + 1, state + 1) for state in range(first - 1)]
+    return steps + [(first, first + 1), (first, first), (first + 1, first + 1)]
+
+
+def last_memory(last):
+    """A machine with the numbers (0, last, 1), as steps."""
+    return [(0, min(state + 1, last)) for state in range(last + 1)]
+
+
+def beside(*parts):
+    """One machine of two commands with the states of some others, one behind another."""
+    steps = []
+    for part in parts:
+        offset = len(steps)
+        steps += [tuple(state + offset for state in entry) for entry in part]
+    return Machine(2, steps)

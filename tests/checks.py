@@ -1,0 +1,23 @@
+"""What many tests ask."""
+
+import unittest
+
+from endsandround.common import is_integer
+
+
+class Case(unittest.TestCase):
+    def raises_at(self, error, at, function, *arguments, **named):
+        """The call raises this very error, with this number kept."""
+        with self.assertRaises(error) as caught:
+            function(*arguments, **named)
+        self.assertIs(caught.exception.__class__, error)
+        self.assertEqual(caught.exception.at, at)
+        self.assertTrue(is_integer(caught.exception.at))
+
+    def is_all_tuples(self, value):
+        """The value is made of tuples, integers, truth values, strings and None alone."""
+        if isinstance(value, tuple):
+            for part in value:
+                self.is_all_tuples(part)
+        else:
+            self.assertTrue(value is None or isinstance(value, (int, str)), repr(value))

@@ -1,0 +1,92 @@
+"""The interface: names, arguments, and where each of them is defined."""
+
+import importlib
+import inspect
+import unittest
+
+INTERFACE = {
+    "errors": {
+        "EndsError": None,
+        "InvalidMachine": ("at",),
+        "InvalidRow": ("at",),
+        "InvalidReordering": ("at",),
+        "InvalidQuestion": ("at",),
+        "InvalidTriple": ("at",),
+        "InvalidMove": ("at",),
+        "InvalidText": ("at",),
+        "NotReversible": ("at",),
+        "Refused": ("at",),
+        "InvalidCommand": None,
+    },
+    "machines": {
+        "Machine": ("commands", "steps"),
+        "checked_row": ("commands", "value"),
+        "end_state": ("machine", "state", "row"),
+        "effect": ("machine", "row"),
+        "followed": ("one", "other"),
+        "effects_of_length": ("machine", "length"),
+        "row_for": ("machine", "wanted"),
+        "reached": ("machine", "start"),
+        "reaching_row": ("machine", "start", "state"),
+    },
+    "reorderings": {
+        "is_reordering": ("value",),
+        "checked_reordering": ("value",),
+        "idle": ("many",),
+        "exchange": ("many", "i", "j"),
+        "reordered": ("row", "reordering"),
+        "after": ("one", "other"),
+        "back": ("reordering",),
+        "shifted": ("reordering", "before", "behind"),
+        "rings": ("reordering",),
+        "frame": ("reordering",),
+        "three_ring": ("reordering",),
+    },
+    "questions": {
+        "Question": ("machine", "start", "answers"),
+        "answer": ("question", "row"),
+        "parting_row": ("question", "one", "other"),
+        "least_question": ("question",),
+        "unlike_row": ("one", "other"),
+        "surroundings": ("question", "row", "other"),
+    },
+    "machinetexts": {
+        "machine_text": ("machine",),
+        "read_machine": ("text",),
+    },
+    "layers": {
+        "behind": ("machine", "count"),
+        "settled_behind": ("machine",),
+        "joined": ("machine", "count"),
+        "settled_joined": ("machine",),
+        "keeping_row": ("machine", "one", "other", "count"),
+    },
+    "gaps": {
+        "gap_pairs": ("machine", "before", "a", "c", "gap"),
+        "rounds": ("machine",),
+    },
+    "court": {
+        "may_exchange": ("machine", "before", "step", "after"),
+        "exchange_harm": ("machine", "before", "step", "after"),
+        "is_exchange_harm": ("machine", "before", "step", "after", "value"),
+        "numbers": ("machine",),
+        "court_paper": ("machine",),
+        "is_court_paper": ("machine", "value"),
+    },
+}
+
+
+class InterfaceTest(unittest.TestCase):
+    def test_names_and_arguments(self):
+        for module_name, names in INTERFACE.items():
+            module = importlib.import_module(f"endsandround.{module_name}")
+            for name, arguments in names.items():
+                with self.subTest(module=module_name, name=name):
+                    found = getattr(module, name)
+                    self.assertEqual(found.__module__, module.__name__)
+                    if arguments is not None:
+                        self.assertEqual(tuple(inspect.signature(found).parameters), arguments)
+
+
+if __name__ == "__main__":
+    unittest.main()

@@ -131,6 +131,21 @@ def last_memory(last):
     return [(0, min(state + 1, last)) for state in range(last + 1)]
 
 
+def chain(many):
+    """A machine whose commands do the same and lead down to the state 0, as steps."""
+    return [(max(state - 1, 0),) * 2 for state in range(many)]
+
+
+def wheels_by_command(steps):
+    """A machine with a command 0 and, for each of some wheels, one command that turns its bit over."""
+    entries = []
+    for at, step in enumerate(steps):
+        offset = len(entries)
+        for idle, turned in wheel(step):
+            entries.append([offset + (turned if command == at + 1 else idle) for command in range(len(steps) + 1)])
+    return Machine(len(steps) + 1, entries)
+
+
 def beside(*parts):
     """One machine of two commands with the states of some others, one behind another."""
     steps = []

@@ -130,6 +130,11 @@ class NumbersTest(Case):
         machine = brute.beside(brute.first_memory(3), brute.last_memory(2), brute.wheel(4), brute.wheel(6))
         self.assertEqual(numbers(machine), (3, 2, 12))
 
+    def test_numbers_below_the_counts_from_which_all_is_settled(self):
+        machine = brute.beside(brute.first_memory(2), brute.last_memory(1), brute.wheel(3), brute.chain(6))
+        self.assertEqual((settled_behind(machine), settled_joined(machine)), (5, 5))
+        self.assertEqual(numbers(machine), (2, 1, 3))
+
     def test_harmless_ones_are_allowed_and_long_allowed_ones_harmless(self):
         met = {}
         for machine in (*brute.small_machines(), *brute.near_machines(55, 30, states=(3, 4))):
@@ -263,6 +268,21 @@ class PaperTest(Case):
             (2, 2, None), ("2", 2, 2), (2.0, 2, 2), (2, 2, 5002), (10 ** 40, 2, 2), (2, 10 ** 40, 2), (2, 2, 10 ** 40),
         ):
             self.assertIs(is_court_paper(machine, (kind, wrong, harms)), False, wrong)
+
+    def test_a_lesser_triple_with_the_harms_that_it_wants(self):
+        machine = brute.beside(brute.first_memory(2), brute.last_memory(2), brute.wheel(2))
+        u, v = settled_behind(machine), settled_joined(machine)
+        for first, last, step in ((2, 2, 2), (1, 2, 2), (2, 1, 2), (2, 2, 1), (1, 1, 1), (1, 1, 2)):
+            harms = [exchange_harm(machine, first - 1, step, v), exchange_harm(machine, u, step, last - 1)]
+            harms += [exchange_harm(machine, u, 1, v)] if step == 2 else []
+            self.assertNotIn(None, harms)
+            told = is_court_paper(machine, ("numbers", (first, last, step), tuple(harms)))
+            self.assertIs(told, (first, last, step) == (2, 2, 2))
+
+    def test_a_step_is_from_1_to_5000(self):
+        machine = Machine(2, [(0, 0)])
+        for step in (0, -1, -2, 5001, 10 ** 40):
+            self.assertIs(is_court_paper(machine, ("numbers", (0, 0, step), ())), False)
 
     def test_truth_values_are_no_numbers(self):
         self.assertIs(is_court_paper(Machine(2, [(0, 0)]), ("numbers", (0, 0, 1), ())), True)

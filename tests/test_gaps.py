@@ -71,6 +71,11 @@ class RoundsTest(Case):
         self.assertEqual(rounds(brute.beside(*parts, brute.last_memory(2))), (2, 4998))
         self.raises_at(Refused, 5000, rounds, brute.beside(*parts, brute.last_memory(3)))
 
+    def test_rounds_of_all_commands_together(self):
+        self.assertEqual(rounds(brute.wheels_by_command((3, 4, 5))), (0, 60))
+        self.assertEqual(rounds(brute.wheels_by_command((13, 16, 23))), (0, 4784))
+        self.raises_at(Refused, 5000, rounds, brute.wheels_by_command((13, 17, 23)))
+
     def test_far_beyond_the_limit(self):
         machine = brute.beside(*[brute.wheel(step) for step in (2, 3, 5, 7, 11, 13)])
         self.raises_at(Refused, 5000, rounds, machine)

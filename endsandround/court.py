@@ -2,8 +2,6 @@
 
 from endsandround.common import (
     divisors,
-    first_not_below,
-    is_below,
     is_integer,
     is_number,
     is_tuple_of,
@@ -12,7 +10,7 @@ from endsandround.common import (
 )
 from endsandround.gaps import LIMIT, gap_chains, rounds, rounds_of
 from endsandround.layers import behind, joined, keeping_row, row_behind, settled_behind, settled_joined
-from endsandround.machines import end_state
+from endsandround.machines import are_parted, is_row_and_state
 from endsandround.reorderings import exchange, reordered
 
 
@@ -22,8 +20,8 @@ def _crossed(machine, a, c, pair):
     return machine.steps[s][c], machine.steps[t][a]
 
 
-def _parted(machine, chains, gap, after):
-    # Some (a, c, lots of pairs, pair) for which the exchange matters at this gap, or None.
+def parted(machine, chains, gap, after):
+    """Some (a, c, lots of pairs, pair) for which the exchange matters at this gap, or None."""
     least = joined(machine, after)
     for a, c, chain in chains:
         for pair in chain.lot(gap):
@@ -36,7 +34,7 @@ def _parted(machine, chains, gap, after):
 def may_exchange(machine, before, step, after):
     """Whether exchanging the entries at `before` and `before + step` matters to no row."""
     chains = gap_chains(machine, before, step - 1)
-    return _parted(machine, chains, step - 1, after) is None
+    return parted(machine, chains, step - 1, after) is None
 
 
 def _pair_traced(chain, pair, gap):
@@ -58,10 +56,10 @@ def _way_to(chain, lot, pair):
 def exchange_harm(machine, before, step, after):
     """A pair (filling, state) that shows that the exchange matters, or None."""
     chains = gap_chains(machine, before, step - 1)
-    parted = _parted(machine, chains, step - 1, after)
-    if parted is None:
+    shown = parted(machine, chains, step - 1, after)
+    if shown is None:
         return None
-    a, c, chain, pair = parted
+    a, c, chain, pair = shown
     entry, between = _pair_traced(chain, pair, step - 1)
     one, other = divmod(entry, machine.states)
     sources = [s for s in behind(machine, before) if machine.steps[s][a] == one and machine.steps[s][c] == other]
@@ -72,15 +70,20 @@ def exchange_harm(machine, before, step, after):
 
 def is_exchange_harm(machine, before, step, after, value):
     """Whether any value is a pair that shows that the exchange matters."""
-    if not is_tuple_of(2, value):
+    if not is_row_and_state(machine, before + step + 1 + after, value):
         return False
     filling, state = value
-    if not is_tuple_of(before + step + 1 + after, filling) or not is_below(state, machine.states):
+    return are_parted(machine, state, filling, reordered(filling, exchange(len(filling), before, before + step)))
+
+
+def are_exchange_harms(machine, exchanges, value):
+    """Whether any value is a tuple of pairs, one for each (before, step, after), that show that these matter."""
+    if not is_tuple_of(len(exchanges), value):
         return False
-    if first_not_below(filling, machine.commands) is not None:
-        return False
-    changed = reordered(filling, exchange(len(filling), before, before + step))
-    return end_state(machine, state, filling) != end_state(machine, state, changed)
+    return all([
+        is_exchange_harm(machine, before, step, after, harm)
+        for (before, step, after), harm in zip(exchanges, value)
+    ])
 
 
 def numbers(machine):
@@ -89,7 +92,7 @@ def numbers(machine):
     v = settled_joined(machine)
     chains = gap_chains(machine, u, LIMIT)
     period = rounds_of(chains)[1]
-    steps = [d for d in divisors(period) if _parted(machine, chains, d - 1, v) is None]
+    steps = [d for d in divisors(period) if parted(machine, chains, d - 1, v) is None]
     if not steps:
         return None
     step = steps[0]
@@ -99,7 +102,7 @@ def numbers(machine):
     )
     last = least_holding(
         v,
-        lambda after: _parted(machine, chains, step - 1, after) is None,
+        lambda after: parted(machine, chains, step - 1, after) is None,
     )
     return first, last, step
 
@@ -160,10 +163,4 @@ def _is_shown(machine, triple, harms):
         return False
     if not may_exchange(machine, settled_behind(machine), step, last):
         return False
-    contexts = _contexts_below(machine, triple)
-    if not is_tuple_of(len(contexts), harms):
-        return False
-    return all([
-        is_exchange_harm(machine, before, distance, after, harm)
-        for (before, distance, after), harm in zip(contexts, harms)
-    ])
+    return are_exchange_harms(machine, _contexts_below(machine, triple), harms)

@@ -1,6 +1,14 @@
 """Machines, rows of commands, and the effects that rows have."""
 
-from endsandround.common import LotChain, first_not_below, first_row, is_below, is_integer, is_sequence
+from endsandround.common import (
+    LotChain,
+    first_not_below,
+    first_row,
+    is_below,
+    is_integer,
+    is_sequence,
+    is_tuple_of,
+)
 from endsandround.errors import InvalidMachine, InvalidRow, Refused
 
 
@@ -37,9 +45,29 @@ def end_state(machine, state, row):
     """The state to which a row leads a state."""
     if not is_below(state, machine.states):
         raise Refused(0)
-    for command in checked_row(machine.commands, row):
+    return led(machine, state, checked_row(machine.commands, row))
+
+
+def led(machine, state, row):
+    """The state to which a row, known to be one, leads a state."""
+    for command in row:
         state = machine.steps[state][command]
     return state
+
+
+def are_parted(machine, state, row, other):
+    """Whether two rows, known to be such, lead a state to different states."""
+    return led(machine, state, row) != led(machine, state, other)
+
+
+def is_row_and_state(machine, many, value):
+    """Whether any value is a pair of a row of so many commands and a state."""
+    if not is_tuple_of(2, value):
+        return False
+    row, state = value
+    if not is_tuple_of(many, row) or not is_below(state, machine.states):
+        return False
+    return first_not_below(row, machine.commands) is None
 
 
 def effect(machine, row):

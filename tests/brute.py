@@ -64,6 +64,19 @@ def may_exchange(machine, before, step, after):
     )
 
 
+def is_harm(machine, reordering, harm):
+    filling, state = harm
+    changed = moved(filling, reordering)
+    return len(filling) == len(reordering) and run(machine, state, filling) != run(machine, state, changed)
+
+
+def links(machine, length):
+    return tuple(
+        min(i for i in range(j + 1) if i == j or may_exchange(machine, i, j - i, length - 1 - j))
+        for j in range(length)
+    )
+
+
 def is_allowed(triple, reordering):
     if triple is None:
         return reordering == tuple(range(len(reordering)))
@@ -134,6 +147,69 @@ def last_memory(last):
 def chain(many):
     """A machine whose commands do the same and lead down to the state 0, as steps."""
     return [(max(state - 1, 0),) * 2 for state in range(many)]
+
+
+def short_memory(before, longest):
+    """A machine of rows that matter only as long as they are short, as steps: a command behind `before` - 1 others,
+    from the state 0, is kept while less than `longest` others follow; at the end all is in the last state."""
+    steps = [(state + 1, state + 1) for state in range(before - 1)] + [(before, before + longest)]
+    last = before + 2 * longest
+    for start in (before, before + longest):
+        steps += [(state + 1, state + 1) for state in range(start, start + longest - 1)] + [(last, last)]
+    return steps + [(last, last)]
+
+
+def one_word(*words):
+    """A machine of two commands that shows, from the state 0, whether a row is one of some equally long words."""
+    numbers = {(): 0}
+    for word in words:
+        for many in range(1, len(word)):
+            numbers.setdefault(word[:many], len(numbers))
+    found, other = len(numbers), len(numbers) + 1
+    steps = [
+        [found if (*row, c) in words else numbers.get((*row, c), other) for c in range(2)]
+        for row in numbers
+    ]
+    return Machine(2, [*steps, (other, other), (other, other)])
+
+
+def finder(commands, word):
+    """A machine that finds out, from the state 0 on, whether a word has come, and then stays."""
+    steps = []
+    for many in range(len(word)):
+        entry = []
+        for c in range(commands):
+            row = (*word[:many], c)
+            entry.append(max(n for n in range(len(row) + 1) if row[len(row) - n:] == word[:n]))
+        steps.append(entry)
+    return Machine(commands, [*steps, [len(word)] * commands])
+
+
+def group_machine(*singles):
+    """The machine whose commands have these effects."""
+    return Machine(len(singles), [list(entry) for entry in zip(*singles)])
+
+
+def reversible_machines(seed, many, commands=(1, 2, 3, 4), states=(1, 2, 3, 4, 5, 6)):
+    """Reversible machines, among them many that have numbers."""
+    random = Random(seed)
+    for _ in range(many):
+        n = random.choice(states)
+        base = random.sample(range(n), n)
+        singles = [base]
+        kind = random.random()
+        while len(singles) < random.choice(commands):
+            single = random.sample(range(n), n) if kind < 0.3 else list(base)
+            if kind >= 0.3 and n > 1 and random.random() < 0.6:
+                i, j = random.sample(range(n), 2)
+                single[i], single[j] = single[j], single[i]
+            singles.append(single)
+        random.shuffle(singles)
+        yield group_machine(*singles)
+    for step in range(1, 6):
+        yield Machine(2, wheel(step))
+        yield wheels_by_command((step, 2))
+        yield beside(wheel(step), wheel(4))
 
 
 def wheels_by_command(steps):

@@ -4,6 +4,12 @@ import unittest
 
 from endsandround.common import is_integer
 
+# Values that are no reorderings, each with the number that the error keeps.
+WRONG_REORDERINGS = (
+    (None, 0), (3, 0), ("01", 0), ({0: 1}, 0), ((1,), 0), ((0, 0), 1), ((1, 2), 1), ([0, 1, -1], 2), ((0, "1"), 1),
+    ((0, True), 1), ((False, 1), 0), ((1, 0.0), 1), ((0, None, 1), 1), ([1, 0, 1, 0], 2), (b"01", 0),
+)
+
 
 class Case(unittest.TestCase):
     def raises_at(self, error, at, function, *arguments, **named):

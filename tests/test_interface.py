@@ -73,6 +73,56 @@ INTERFACE = {
         "court_paper": ("machine",),
         "is_court_paper": ("machine", "value"),
     },
+    "corners": {
+        "corners": ("machine", "distance"),
+        "left_out": ("machine", "distance"),
+        "corner_paper": ("machine", "distance"),
+        "is_corner_paper": ("machine", "distance", "value"),
+    },
+    "exactly": {
+        "is_exact": ("machine", "length"),
+        "exact_from": ("machine",),
+        "inexact_lengths": ("machine",),
+        "inexact_harm": ("machine", "length"),
+        "is_inexact_harm": ("machine", "length", "value"),
+    },
+    "links": {
+        "links": ("machine", "length"),
+        "sure_count": ("machine", "length"),
+        "harmless_count": ("machine", "length"),
+    },
+    "cuts": {
+        "open_entries": ("reordering", "cut"),
+        "width": ("reordering",),
+        "walked_harm": ("machine", "reordering"),
+    },
+    "allowing": {
+        "is_allowed": ("triple", "reordering"),
+    },
+    "judge": {
+        "is_harm": ("machine", "reordering", "value"),
+        "built_harm": ("machine", "reordering"),
+        "harm": ("machine", "reordering"),
+        "harmless_all": ("machine", "places"),
+    },
+    "reversible": {
+        "is_reversible": ("machine",),
+        "undone": ("machine",),
+        "order_of": ("machine", "command"),
+        "repeated": ("machine", "command", "n"),
+        "shift": ("machine", "base", "command", "i"),
+        "free_step": ("machine", "base"),
+        "clash": ("machine", "base"),
+        "reversible_numbers": ("machine", "base"),
+    },
+    "sparse": {
+        "is_sparse_harm": ("machine", "base", "reordering", "value"),
+        "sparse_harm": ("machine", "base", "reordering"),
+    },
+    "counts": {
+        "row_counts": ("machine", "base", "row"),
+        "effect_of_counts": ("machine", "base", "counts"),
+    },
 }
 
 

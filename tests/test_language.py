@@ -28,7 +28,8 @@ BARRED = set(
     "register mro elements open input law version_info with_traceback add_note type typing enum dataclass".split()
 )
 AT_ONCE = {"zip", "range", "enumerate", "reversed"}
-TAKERS = {"list", "tuple", "dict", "sorted", "sum", "any", "all", "enumerate", "zip", "min", "max", "len"}
+TAKERS = {"list", "tuple", "dict", "sorted", "sum", "any", "all", "enumerate", "zip", "min", "max", "len",
+          "permutations"}
 NODES_NOT_USED = (
     ast.Global, ast.AsyncFunctionDef, ast.AsyncFor, ast.AsyncWith, ast.Await, ast.Div, ast.MatMult, ast.Try,
     ast.Import, ast.Yield, ast.YieldFrom, ast.AnnAssign,

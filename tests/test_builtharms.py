@@ -1,0 +1,51 @@
+"""Point 25: the moves of windows by which harms are built where there are no numbers."""
+
+from random import Random
+
+from endsandround.builtharms import ring_moves, ring_sizes
+from endsandround.reorderings import back, exchange, reordered
+from tests import brute
+from tests.checks import Case
+
+
+def done(row, places, moves):
+    for window, is_onward in moves:
+        end = window + len(places)
+        row = row[:window] + brute.moved(row[window:end], places if is_onward else back(places)) + row[end:]
+    return row
+
+
+class RingTest(Case):
+    def check(self, random, commands, places):
+        start, stride, far = ring_sizes(places)
+        length = (commands - 1) * stride + far + len(places)
+        row = tuple(random.randrange(commands) for _ in range(length))
+        if row[start] == row[start + stride]:
+            return False
+        contents = row[start:start + commands * stride + 1:stride]
+        self.assertEqual(len(contents), commands + 1)
+        moves = ring_moves(places, contents)
+        self.assertTrue(all(0 <= window <= length - len(places) for window, _ in moves))
+        changed = done(row, places, moves)
+        self.assertEqual(changed, reordered(row, exchange(length, start, start + stride)))
+        return True
+
+    def test_the_moves_do_the_exchange(self):
+        random = Random(253)
+        many = 0
+        for size in (2, 3, 4):
+            for places in brute.reorderings(size):
+                if places != tuple(range(size)):
+                    for commands in (2, 3, 4, 5):
+                        many += self.check(random, commands, places)
+        for size in (5, 9, 20):
+            for commands in (2, 3, 4, 5, 6, 10):
+                for _ in range(10):
+                    many += self.check(random, commands, tuple(random.sample(range(size), size)))
+        self.assertGreater(many, 150)
+
+    def test_places_that_stay_at_the_ends(self):
+        random = Random(254)
+        for places in ((0, 1, 3, 2, 4, 5), (0, 3, 2, 1), (2, 1, 0, 3, 4), (0, 2, 3, 1, 4)):
+            for _ in range(20):
+                self.check(random, 5, places)

@@ -13,7 +13,7 @@ from endsandround.reorderings import back, exchange, frame, reordered
 
 def harm_by_exchange(machine, triple, places):
     """A harm of a reordering that the numbers do not allow."""
-    window, before, distance, after = _harmful_exchange(machine, triple, places)
+    window, before, distance, after = harmful_exchange(machine, triple, places)
     row, state = exchange_harm(machine, before, distance, after)
     end = window + len(places)
     # The window leads the entry at `before` or at `before + distance` to a place from which the exchange with
@@ -26,9 +26,12 @@ def harm_by_exchange(machine, triple, places):
     return None
 
 
-def _harmful_exchange(machine, triple, places):
-    # Where the window begins, and an exchange (before, distance, after), which matters, of one place in the
-    # window and one outside of it; it would not if the entry were where the window leads it.
+def harmful_exchange(machine, triple, places):
+    """A tuple (window, before, distance, after) for a reordering that the numbers do not allow.
+
+    It tells where the window begins, and an exchange, which matters, of one place in the window and one outside
+    of it; the exchange of that one and the place to which the window leads what is at the other never matters.
+    """
     first, last, step = triple
     alone, alone_behind, _ = frame(places)
     for at, place in enumerate(places):

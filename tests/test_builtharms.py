@@ -1,8 +1,9 @@
-"""Point 25: the moves of windows by which harms are built where there are no numbers."""
+"""Point 25: the exchanges, and the moves of windows, by which harms are built."""
 
 from random import Random
 
-from endsandround.builtharms import ring_moves, ring_sizes
+from endsandround.builtharms import harmful_exchange, ring_moves, ring_sizes
+from endsandround.court import may_exchange, numbers
 from endsandround.reorderings import back, exchange, reordered
 from tests import brute
 from tests.checks import Case
@@ -13,6 +14,39 @@ def done(row, places, moves):
         end = window + len(places)
         row = row[:window] + brute.moved(row[window:end], places if is_onward else back(places)) + row[end:]
     return row
+
+
+class ExchangeTest(Case):
+    def check(self, machine, triple, places):
+        window, before, distance, after = harmful_exchange(machine, triple, places)
+        length = before + distance + 1 + after
+        end = window + len(places)
+        self.assertTrue(0 <= window and end <= length)
+        within, = [place for place in (before, before + distance) if window <= place < end]
+        outside, = [place for place in (before, before + distance) if not window <= place < end]
+        led = window + places[within - window]
+        low, high = min(led, outside), max(led, outside)
+        self.assertIs(may_exchange(machine, low, high - low, length - 1 - high), True)
+        self.assertIs(may_exchange(machine, before, distance, after), False)
+
+    def test_all_that_is_told(self):
+        random = Random(255)
+        for first in range(4):
+            for last in range(4):
+                for step in (1, 2, 3, 5):
+                    machine = brute.beside(
+                        brute.first_memory(first) if first else [(0, 0)],
+                        brute.last_memory(last) if last else [(0, 0)],
+                        brute.wheel(step), brute.chain(first + last),
+                    )
+                    triple = numbers(machine)
+                    self.assertEqual(triple, (first, last, step))
+                    some = [random.sample(range(many), many) for many in (2, 3, 6, 11)]
+                    some += [exchange(13, i, i + step) for i in range(13 - step)]
+                    some += [exchange(13, i, i + 2 * step) for i in range(13 - 2 * step)]
+                    for p in some:
+                        if not brute.is_allowed(triple, tuple(p)):
+                            self.check(machine, triple, tuple(p))
 
 
 class RingTest(Case):

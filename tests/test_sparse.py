@@ -81,6 +81,17 @@ class SparseTest(Case):
                 self.assertEqual(len([c for c in told[0] if c != 0]), 2)
                 self.check(machine, 0, exchange(many, at, at + step))
 
+    def test_a_clash_of_two_commands_that_do_not_clash_the_other_way(self):
+        for steps, found, step in (
+            ([(3, 3, 2), (2, 2, 3), (4, 4, 4), (1, 0, 1), (0, 1, 0)], (1, 2, 1), 5),
+            ([(2, 5, 2), (5, 2, 5), (0, 0, 1), (1, 1, 0), (3, 3, 3), (4, 4, 4)], (1, 1, 2), 4),
+        ):
+            machine = Machine(3, steps)
+            self.assertEqual((clash(machine, 0), free_step(machine, 0)), (found, step))
+            for many in range(step + 1, 3 * step + 2):
+                for at in range(many - step):
+                    self.check(machine, 0, exchange(many, at, at + step))
+
     def test_400_places(self):
         random = Random(304)
         machines = [TURNS, SHUFFLES, far_clash(), Machine(2, brute.wheel(5))]

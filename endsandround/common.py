@@ -63,6 +63,42 @@ def prime_divisors(number):
     return tuple(primes)
 
 
+def times(factor, many):
+    """The product of a factor, so many times."""
+    product = 1
+    while many > 0:
+        if many % 2 == 1:
+            product = product * factor
+        many = many // 2
+        if many > 0:
+            factor = factor * factor
+    return product
+
+
+def turned_pairs(values):
+    """How many pairs of some values stand with the greater one ahead."""
+    return _sorted_with_turned(values)[1]
+
+
+def _sorted_with_turned(values):
+    # The values ascending, and how many pairs of them stood with the greater one ahead.
+    if len(values) < 2:
+        return list(values), 0
+    half = len(values) // 2
+    ahead, turned_ahead = _sorted_with_turned(values[:half])
+    behind, turned_behind = _sorted_with_turned(values[half:])
+    turned = turned_ahead + turned_behind
+    merged = []
+    taken = 0
+    for value in behind:
+        while taken < len(ahead) and ahead[taken] <= value:
+            merged.append(ahead[taken])
+            taken += 1
+        merged.append(value)
+        turned += len(ahead) - taken
+    return merged + ahead[taken:], turned
+
+
 def least_holding(highest, holds):
     """The least number for which something holds, if it does so for `highest` and all numbers from that one on."""
     low = 0

@@ -40,7 +40,11 @@ def _built(machine, triple, places):
 def harm(machine, reordering):
     """Some harm of a reordering, or None if it is harmless."""
     places = checked_reordering(reordering)
-    triple = numbers(machine)
+    return harm_by(machine, numbers(machine), places)
+
+
+def harm_by(machine, triple, places):
+    """Some harm of a reordering, or None if it is harmless, by the numbers, which are told."""
     if not is_allowed(triple, places):
         return _built(machine, triple, places)
     if is_exact_by(machine, triple, len(places)) or _is_within(links_by(machine, triple, len(places)), places):

@@ -21,6 +21,13 @@ def checked_reordering(value):
     return tuple(value)
 
 
+def told_reordering(value):
+    """Any value as a reordering, or None if it is no sequence that is one."""
+    if not is_sequence(value) or _wrong_place(value) is not None:
+        return None
+    return tuple(value)
+
+
 def _wrong_place(places):
     taken = [False] * len(places)
     for at, place in enumerate(places):

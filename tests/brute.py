@@ -229,3 +229,29 @@ def beside(*parts):
         offset = len(steps)
         steps += [tuple(state + offset for state in entry) for entry in part]
     return Machine(2, steps)
+
+
+def bag_of(triple, length, place):
+    """Which bag a place is in, None outside of the middle."""
+    first, last, step = triple
+    return place % step if first <= place < length - last else None
+
+
+def are_alike(triple, one, other):
+    """Whether rows are alike, by what the document says of each place, bag and command."""
+    if len(one) != len(other):
+        return False
+    length = len(one)
+    bags = [bag_of(triple, length, place) for place in range(length)]
+    if any(bags[place] is None and one[place] != other[place] for place in range(length)):
+        return False
+    return all(
+        len([p for p in range(length) if bags[p] == bag and one[p] == command])
+        == len([p for p in range(length) if bags[p] == bag and other[p] == command])
+        for bag in set(bags) - {None} for command in (*one, *other)
+    )
+
+
+def alike_rows(triple, row):
+    """All rows that are alike with one, ascending."""
+    return [other for other in sorted(set(permutations(row))) if are_alike(triple, row, other)]

@@ -10,6 +10,28 @@ WRONG_REORDERINGS = (
     ((0, True), 1), ((False, 1), 0), ((1, 0.0), 1), ((0, None, 1), 1), ([1, 0, 1, 0], 2), (b"01", 0),
 )
 
+# Values that are no triples, each with the number that the error keeps.
+WRONG_TRIPLES = (
+    (None, 3), (3, 3), ("001", 3), ({0: 1}, 3), ((), 3), ((0, 0), 3), ([0, 0, 1, 1], 3), (b"001", 3), ((0, 0, 0), 2),
+    ((-1, 0, 1), 0), ((0, -1, 0), 1), ([0, 0, -1], 2), ((True, 0, 1), 0), ((0, False, 1), 1), ((0, 0, True), 2),
+    ((0, 0, 1.0), 2), (("0", None, 1), 0), ((0, None, 1), 1), ((0, 0, (1,)), 2),
+)
+
+# Values that are no rows of numbers, each with the number that the error keeps.
+WRONG_NUMBER_ROWS = (
+    (None, 0), (3, 0), ("01", 0), ({0: 1}, 0), (b"01", 0), ({1}, 0), ((-1,), 0), ([0, 1, -1, -2], 2), ((0, None), 1),
+    ((0, 1, True), 2), ((0.0, 1), 0), ((0, "1"), 1), ([(0,)], 0), (range(3), 0),
+)
+
+
+class Odd:
+    """Something else."""
+
+    def __eq__(self, other):
+        return True
+
+    __hash__ = None
+
 
 class Case(unittest.TestCase):
     def raises_at(self, error, at, function, *arguments, **named):

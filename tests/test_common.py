@@ -1,8 +1,10 @@
 """What several files need."""
 
 import unittest
+from itertools import combinations
+from random import Random
 
-from endsandround.common import LotChain, divisors, first_row, least_holding, prime_divisors
+from endsandround.common import LotChain, divisors, first_row, least_holding, prime_divisors, times, turned_pairs
 
 
 class CommonTest(unittest.TestCase):
@@ -17,6 +19,18 @@ class CommonTest(unittest.TestCase):
         for highest in range(8):
             for least in range(highest + 1):
                 self.assertEqual(least_holding(highest, lambda n: n >= least), least)
+
+    def test_times(self):
+        for factor in (0, 1, 2, 7, 10 ** 20):
+            for many in range(40):
+                self.assertEqual(times(factor, many), factor ** many)
+        self.assertEqual(times(1, 10 ** 30), 1)
+
+    def test_turned_pairs(self):
+        random = Random(1)
+        for many in (0, 1, 2, 3, 8, 30):
+            values = [random.randrange(10) for _ in range(many)]
+            self.assertEqual(turned_pairs(values), len([1 for one, other in combinations(values, 2) if one > other]))
 
     def test_first_row(self):
         self.assertEqual(first_row(1, lambda n: (2 * n, 2 * n + 1, n + 1), lambda n: n == 5), (0, 1))

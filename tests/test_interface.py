@@ -123,6 +123,47 @@ INTERFACE = {
         "row_counts": ("machine", "base", "row"),
         "effect_of_counts": ("machine", "base", "counts"),
     },
+    "triples": {
+        "is_triple": ("value",),
+        "checked_triple": ("value",),
+        "bags": ("triple", "length"),
+    },
+    "alike": {
+        "are_alike": ("triple", "one", "other"),
+        "unlikeness": ("triple", "one", "other"),
+        "leading": ("triple", "one", "other"),
+        "leading_count": ("triple", "one", "other"),
+    },
+    "normal": {
+        "normal_row": ("triple", "row"),
+        "alike_count": ("triple", "row"),
+        "alike_at": ("triple", "row", "at"),
+        "alike_index": ("triple", "row"),
+    },
+    "exchanges": {
+        "exchange_count": ("triple", "one", "other"),
+        "fewest_exchanges": ("triple", "one", "other"),
+        "greatest_count": ("triple", "row"),
+    },
+    "telling": {
+        "telling_machine": ("triple", "one", "other"),
+        "is_telling": ("triple", "one", "other", "value"),
+    },
+    "claims": {
+        "Claims": ("commands", "reorderings"),
+        "broken": ("claims", "machine"),
+        "shown_numbers": ("claims",),
+    },
+    "rowlots": {
+        "row_lot": ("claims", "row"),
+        "row_path": ("claims", "row", "other"),
+        "lot_machine": ("claims", "length"),
+    },
+    "ties": {
+        "knots": ("claims", "length"),
+        "is_full": ("claims", "length"),
+        "full_from": ("claims",),
+    },
 }
 
 
@@ -136,6 +177,11 @@ class InterfaceTest(unittest.TestCase):
                     self.assertEqual(found.__module__, module.__name__)
                     if arguments is not None:
                         self.assertEqual(tuple(inspect.signature(found).parameters), arguments)
+
+    def test_methods_stand_in_their_class(self):
+        for module_name, name in (("machines", "Machine"), ("questions", "Question"), ("claims", "Claims")):
+            found = getattr(importlib.import_module(f"endsandround.{module_name}"), name)
+            self.assertIn("__eq__", vars(found))
 
 
 if __name__ == "__main__":

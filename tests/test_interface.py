@@ -164,6 +164,53 @@ INTERFACE = {
         "is_full": ("claims", "length"),
         "full_from": ("claims",),
     },
+    "sure": {
+        "is_sure": ("claims", "reordering"),
+        "refutation": ("claims", "reordering"),
+        "is_refutation": ("claims", "reordering", "value"),
+    },
+    "findings": {
+        "checked_findings": ("value",),
+        "agrees": ("triple", "told"),
+        "widest": ("told",),
+        "clash": ("told",),
+        "is_clash": ("told", "value"),
+    },
+    "leftover": {
+        "triples_left": ("told",),
+        "left_count": ("told",),
+        "pinned": ("told",),
+        "split": ("told", "reordering"),
+        "next_reordering": ("told",),
+    },
+    "teaching": {
+        "teaching": ("triple",),
+        "teaching_count": ("triple",),
+        "is_teaching": ("triple", "value"),
+    },
+    "moves": {
+        "checked_moves": ("places", "value"),
+        "place_after": ("places", "moves", "place"),
+        "spread": ("places", "moves"),
+        "undoing": ("places", "moves"),
+    },
+    "stretches": {
+        "pieces": ("places", "moves"),
+        "moves_frame": ("places", "moves"),
+        "wrong_place": ("triple", "places", "moves"),
+        "moves_harmless": ("machine", "places", "moves"),
+    },
+    "pasting": {
+        "pasted": ("triple", "reordering"),
+    },
+    "rowkinds": {
+        "kind_count": ("triple", "commands", "length"),
+        "most_alike": ("triple", "commands", "length"),
+    },
+    "ranks": {
+        "kind_at": ("triple", "commands", "length", "index"),
+        "kind_index": ("triple", "commands", "row"),
+    },
 }
 
 

@@ -105,7 +105,10 @@ def is_clash(told, value):
     framed = [(frame(findings[at][0]), findings[at][1]) for at in value]
     if not _clashing(framed):
         return False
-    return not any([_clashing(framed[:at] + framed[at + 1:]) for at in range(len(framed))])
+    for at in range(len(framed)):
+        if _clashing(framed[:at] + framed[at + 1:]):
+            return False
+    return True
 
 
 def _clashing(framed):

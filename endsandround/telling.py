@@ -22,9 +22,8 @@ def telling_machine(triple, one, other):
     if place < told[0]:
         return _first_memory(commands, place, row[place]), 0
     # Behind the last place at which they differ, both rows are the same: so just one of them ends with this word.
-    while row[place + 1:] != other_row[place + 1:]:
-        place += 1
-    return _end_finder(commands, row[place:]), 0
+    last_place = max([at for at, entry in enumerate(row) if entry != other_row[at]])
+    return _end_finder(commands, row[last_place:]), 0
 
 
 def _bag_teller(commands, triple, rows, shown):

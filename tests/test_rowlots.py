@@ -189,6 +189,13 @@ class LotMachineTest(Case):
         self.raises_at(Refused, 256, lot_machine, claims=Claims(2, []), length=7)
         self.raises_at(Refused, 122, lot_machine, Claims(3, []), 4)
         self.raises_at(Refused, 157, lot_machine, Claims(5, []), 3)
+        # Just 100 states, and 101.
+        claims = Claims(2, [(1, 0, 5, 4, 3, 2)])
+        self.assertEqual(lot_machine(claims, 6).states, 100)
+        self.assertEqual(len(slow_lots(claims, 6)), 99)
+        claims = Claims(2, [(2, 1, 0, 3, 5, 4), (2, 1, 0, 3, 4)])
+        self.assertEqual(len(slow_lots(claims, 7)), 100)
+        self.raises_at(Refused, 101, lot_machine, claims, 7)
         sums = Claims(5, [(1, 0)])
         self.assertEqual(lot_machine(sums, 3).states, 57)
         self.assertEqual(lot_machine(Claims(2, [(1, 0)]), 7).states, 37)

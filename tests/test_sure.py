@@ -156,6 +156,17 @@ class RefutationTest(Case):
                                 if not brute.is_allowed((first, last, step), p):
                                     self.check(claims, p)
 
+    def test_each_step(self):
+        random = Random(425)
+        for step in range(2, 8):
+            claims = Claims(3, [brute.swapped(tuple(range(step + 1)), 0, step)])
+            self.assertEqual(shown_numbers(claims), (0, 0, step))
+            for length in (5, 10, 20, 50):
+                for _ in range(5):
+                    p = tuple(random.sample(range(length), length))
+                    if not brute.is_allowed((0, 0, step), p):
+                        self.check(claims, p)
+
     def test_told(self):
         told = refutation(claims=PAIRS, reordering=[1, 0])
         self.assertIs(is_refutation(claims=PAIRS, reordering=[1, 0], value=told), True)

@@ -77,6 +77,15 @@ class TiesTest(Case):
         self.assertEqual([full_from(Claims(commands, [(2, 1, 0)])) for commands in (2, 3, 4, 5)], [6, 8, 10, 12])
         self.assertEqual(knots(Claims(2, [(0, 2, 1, 3)]), 5), ((1, 2, 3),))
 
+    def test_all_places_must_be_ringed(self):
+        # At seven places there is one knot, as the step tells, but the place 0 is not ringed.
+        claims = Claims(2, [(0, 2, 1), (7, 1, 2, 3, 4, 5, 6, 0)])
+        self.assertEqual(shown_numbers(claims), (0, 0, 1))
+        self.assertEqual(knots(claims, 7), ((1, 2, 3, 4, 5, 6),))
+        self.assertIs(is_full(claims, 7), False)
+        self.assertEqual(knots(claims, 8), (tuple(range(8)),))
+        self.assertEqual(full_from(claims), 8)
+
     def test_idle_claims(self):
         for claims in (Claims(2, []), Claims(2, [(), (0, 1, 2)])):
             self.assertEqual(knots(claims, 9), ())

@@ -20,10 +20,10 @@ def _next_below(triple):
 
 
 def teaching(triple):
-    """Some findings, as few as possible, that teach a triple."""
+    """Some findings, as few as possible, that teach a triple, ascending."""
     told = checked_triple(triple)
-    harmful = [(exchange_framed(other), False) for other in _next_below(told)]
-    return ((exchange_framed(told), True), *harmful)
+    found = [(exchange_framed(other), False) for other in _next_below(told)]
+    return tuple(sorted([(exchange_framed(told), True), *found]))
 
 
 def teaching_count(triple):

@@ -18,6 +18,7 @@ class TeachingTest(Case):
             told = teaching(triple)
             self.is_all_tuples(told)
             self.assertEqual(checked_findings(told), told)
+            self.assertEqual(list(told), sorted(told))
             self.assertEqual(agreeing(told), [triple])
             self.assertEqual(pinned(told), triple)
             self.assertIs(is_teaching(triple, told), True)
@@ -78,7 +79,7 @@ class TeachingTest(Case):
 
     def test_what_is_none(self):
         told = teaching((0, 0, 2))
-        (one, _), (other, _) = told
+        (one,), (other,) = ([p for p, harmless in told if harmless is wanted] for wanted in (True, False))
         self.assertIs(is_teaching((0, 0, 2), told), True)
         wrong = (
             None, 3, "it", (), Odd(), list(told), told[0], (told,), ((one, True), [other, False]),

@@ -97,5 +97,5 @@ def lot_machine(claims, length):
     steps = [[states] * claims.commands for _ in range(states + 1)]
     for row, lot in numbers.items():
         if len(row) < length:
-            steps[lot] = [numbers[(*row, command)] for command in range(claims.commands)]
+            steps[lot] = [numbers[row + (command,)] for command in range(claims.commands)]
     return Machine(claims.commands, steps)

@@ -88,24 +88,38 @@ def command_effects(machine):
     return tuple(tuple(entry[command] for entry in machine.steps) for command in range(machine.commands))
 
 
+class Effects:
+    """The effects of rows, numbered as they are met, as numbers are compared faster than tuples.
+
+    `found` has them by their numbers; 0 is that of the empty row.
+    """
+
+    def __init__(self, machine):
+        self.singles = command_effects(machine)
+        self.found = [effect(machine, ())]
+        self.numbers = {self.found[0]: 0}
+        self.targets = {}
+
+    def number_of(self, wanted):
+        """The number of an effect."""
+        if wanted not in self.numbers:
+            self.numbers[wanted] = len(self.found)
+            self.found.append(wanted)
+        return self.numbers[wanted]
+
+    def with_command(self, number):
+        """The numbers of the effects of a row, which has the effect with a number, and one more command behind."""
+        if number not in self.targets:
+            ahead = self.found[number]
+            self.targets[number] = [self.number_of(followed(ahead, single)) for single in self.singles]
+        return self.targets[number]
+
+
 def effects_of_length(machine, length):
     """All effects of the rows of a length."""
-    singles = command_effects(machine)
-    # Effects are numbered as they are met: lots of numbers are compared faster than lots of tuples.
-    effects = [effect(machine, ())]
-    numbers = {effects[0]: 0}
-
-    def number_of(found):
-        if found not in numbers:
-            numbers[found] = len(effects)
-            effects.append(found)
-        return numbers[found]
-
-    def follow(number):
-        return [number_of(followed(effects[number], single)) for single in singles]
-
-    lot = LotChain([0], follow, length).lot(length)
-    return tuple(sorted([effects[number] for number in lot]))
+    effects = Effects(machine)
+    lot = LotChain([0], lambda number: effects.with_command(number), length).lot(length)
+    return tuple(sorted([effects.found[number] for number in lot]))
 
 
 def row_for(machine, wanted):

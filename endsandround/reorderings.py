@@ -1,6 +1,6 @@
 """Reorderings of places: what is at place i goes to place p[i]."""
 
-from math import gcd
+from math import gcd, lcm
 
 from endsandround.common import is_below, is_sequence
 from endsandround.errors import InvalidReordering, Refused
@@ -103,6 +103,14 @@ def rings(reordering):
         if len(ring) > 1:
             found.append(tuple(ring))
     return tuple(found)
+
+
+def turns(reordering):
+    """How often a reordering must be done, at least once, to leave all places as they are."""
+    often = 1
+    for ring in rings(reordering):
+        often = lcm(often, len(ring))
+    return often
 
 
 def _moved_places(places):

@@ -1,11 +1,9 @@
 """Reversible machines: each command leads different states to different states, and so can be undone."""
 
-from math import lcm
-
 from endsandround.common import divisors
 from endsandround.errors import NotReversible
 from endsandround.machines import Machine, command_effects, followed
-from endsandround.reorderings import back, is_reordering, rings
+from endsandround.reorderings import back, is_reordering, rings, turns
 
 
 def is_reversible(machine):
@@ -28,16 +26,9 @@ def undone(machine):
     return Machine(machine.commands, [[undoing[state] for undoing in undoings] for state in range(machine.states)])
 
 
-def _order(single):
-    order = 1
-    for ring in rings(single):
-        order = lcm(order, len(ring))
-    return order
-
-
 def order_of(machine, command):
     """How often a command must be done, at least once, to lead each state to itself."""
-    return _order(reversible_effects(machine)[command])
+    return turns(reversible_effects(machine)[command])
 
 
 def power(single, n):
@@ -77,7 +68,7 @@ def _goes_with_all(singles, turned):
 def free_step(machine, base):
     """How often the base must be done, at least once, to exchange with each command."""
     singles = reversible_effects(machine)
-    steps = divisors(_order(singles[base]))
+    steps = divisors(turns(singles[base]))
     return [step for step in steps if _goes_with_all(singles, power(singles[base], step))][0]
 
 

@@ -5,6 +5,7 @@ from endsandround.common import first_not_below, is_below, is_tuple_of
 from endsandround.errors import Refused
 from endsandround.gaplabels import exchange_never_matters
 from endsandround.machines import Machine, are_parted
+from endsandround.parts import counting_wheel
 
 
 def telling_machine(triple, one, other):
@@ -45,17 +46,7 @@ def _least_not_dividing(number):
 def _wheel(commands, counted, step, unlike):
     # Counts how often some commands stand at every step-th place, up to the least number that does not divide the
     # number by which two rows are unlike: so it tells these apart, with few states.
-    sizes = _least_not_dividing(unlike)
-    steps = []
-    for place in range(step):
-        onward = (place + 1) % step * sizes
-        for count in range(sizes):
-            entry = [onward + count] * commands
-            if place == 0:
-                for command in counted:
-                    entry[command] = onward + (count + 1) % sizes
-            steps.append(entry)
-    return Machine(commands, steps)
+    return Machine(commands, counting_wheel(commands, counted, step, _least_not_dividing(unlike)))
 
 
 def _first_memory(commands, place, entry):

@@ -255,3 +255,45 @@ def are_alike(triple, one, other):
 def alike_rows(triple, row):
     """All rows that are alike with one, ascending."""
     return [other for other in sorted(set(permutations(row))) if are_alike(triple, row, other)]
+
+
+def left_of(row, omission):
+    """What an omission leaves of a row."""
+    return tuple(row[at] for at in range(len(row)) if omission[at] != 1)
+
+
+def is_harmless_omission(machine, omission):
+    return all(
+        effect(machine, row) == effect(machine, left_of(row, omission))
+        for row in rows(machine.commands, len(omission))
+    )
+
+
+def never_counts(machine, before, after):
+    return all(
+        effect(machine, row) == effect(machine, (*row[:before], command, *row[before + 1:]))
+        for row in rows(machine.commands, before + 1 + after) for command in range(machine.commands)
+    )
+
+
+def may_omit(machine, before, many, after):
+    return is_harmless_omission(machine, (0,) * before + (1,) * many + (0,) * after)
+
+
+def counting_machines(seed, many, commands=(1, 2, 3), states=(1, 2, 3, 4, 5, 6)):
+    """Machines whose commands do the same from many states, so that many of them have numbers of omissions."""
+    random = Random(seed)
+    for _ in range(many):
+        a = random.choice(commands)
+        n = random.choice(states)
+        base = random.sample(range(n), n)
+        if random.random() < 0.5:
+            base[random.randrange(n)] = random.randrange(n)
+        steps = [[base[state]] * a for state in range(n)]
+        if a > 1 and random.random() < 0.8:
+            # A state apart, or one behind which all is soon the same.
+            steps[random.randrange(n)] = [random.randrange(n) for _ in range(a)]
+        yield Machine(a, steps)
+    for first in (1, 2):
+        for last in (1, 2):
+            yield beside(first_memory(first), last_memory(last), [((s + 1) % 3,) * 2 for s in range(3)])

@@ -211,6 +211,43 @@ INTERFACE = {
         "kind_at": ("triple", "commands", "length", "index"),
         "kind_index": ("triple", "commands", "row"),
     },
+    "growth": {
+        "growth": ("triple", "commands"),
+        "told_by": ("counts",),
+    },
+    "freest": {
+        "free_machine": ("triple", "commands", "length"),
+    },
+    "effectcounts": {
+        "effect_counts": ("machine", "longest"),
+        "free_length": ("machine",),
+        "merged_rows": ("machine", "length"),
+    },
+    "omissions": {
+        "checked_omission": ("value",),
+        "omitted": ("row", "omission"),
+        "then_omitted": ("one", "other"),
+        "omission_harm": ("machine", "omission"),
+        "is_omission_harm": ("machine", "omission", "value"),
+        "is_allowed_omission": ("triple", "omission"),
+    },
+    "slips": {
+        "never_counts": ("machine", "before", "after"),
+        "slip": ("machine", "before", "after"),
+        "is_slip": ("machine", "before", "after", "value"),
+    },
+    "omissioncourt": {
+        "may_omit": ("machine", "before", "many", "after"),
+        "omission_numbers": ("machine",),
+    },
+    "omissionpapers": {
+        "omission_paper": ("machine",),
+        "is_omission_paper": ("machine", "value"),
+    },
+    "shortening": {
+        "shortened": ("machine", "row"),
+        "effect_by_ends": ("machine", "beginning", "length", "end"),
+    },
 }
 
 

@@ -153,6 +153,13 @@ class LanguageTest(unittest.TestCase):
                         if isinstance(sign, (ast.Is, ast.IsNot)):
                             self.assertIsInstance(side, ast.Constant, name)
 
+    def test_no_star_in_the_brackets_of_a_subscript(self):
+        for name, tree in TREES.items():
+            for node in ast.walk(tree):
+                if isinstance(node, ast.Subscript):
+                    stars = [part for part in ast.walk(node.slice) if isinstance(part, ast.Starred)]
+                    self.assertEqual(stars, [], (name, node.lineno))
+
     def test_calls(self):
         for name, tree in TREES.items():
             for node in ast.walk(tree):

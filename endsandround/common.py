@@ -145,14 +145,15 @@ class LotChain:
     """A lot of nodes, then all to which these are led, and so on, until a lot comes again.
 
     `lots` are the lots that come, at most up to the index `longest`; behind the last one comes again the
-    one with the index `loop` (None if `longest` came first). `targets` tells where each node met is led.
+    one with the index `loop` (None if `longest` came first). `targets` tells where each node met is led; chains
+    that follow alike may share it.
     """
 
-    def __init__(self, nodes, follow, longest):
+    def __init__(self, nodes, follow, longest, targets=None):
         lot = tuple(sorted(nodes))
         self.lots = [lot]
         self.loop = None
-        self.targets = {}
+        self.targets = {} if targets is None else targets
         places = {lot: 0}
         while self.loop is None and len(self.lots) <= longest:
             lot = self.lot_behind(lot, follow)

@@ -140,6 +140,8 @@ def is_court_paper(machine, value):
     if not is_tuple_of(3, value):
         return False
     kind, told, shown = value
+    if not isinstance(kind, str):
+        return False
     if kind == "numbers":
         return _is_shown(machine, told, shown)
     if kind == "none":

@@ -40,7 +40,7 @@ def then_omitted(one, other):
 class OmissionWalk:
     """To which pairs of states rows lead, and what is left of them, place by place.
 
-    A pair (s, t) is the number s * states + t. `lots` are the lots of pairs that were met, `way` tells which of them
+    A pair (s, t) is the number s * states + t. `lots` are the lots of pairs that were met, `passed` tells which of them
     stands ahead of each place, and at the end.
     """
 
@@ -48,14 +48,14 @@ class OmissionWalk:
         self.machine = machine
         self.lots = []
         self.numbers = {}
-        self.way = [self.number_of([state * machine.states + state for state in range(machine.states)])]
+        self.passed = [self.number_of([state * machine.states + state for state in range(machine.states)])]
         behind = {}
         for out in told:
             # Like lots come again and again in long rows.
-            step = (self.way[-1], out)
+            step = (self.passed[-1], out)
             if step not in behind:
                 behind[step] = self.number_of([t for pair in self.lots[step[0]] for t in self.led(pair, out)])
-            self.way.append(behind[step])
+            self.passed.append(behind[step])
 
     def number_of(self, pairs):
         """The number of the lot of some pairs."""
@@ -78,7 +78,7 @@ class OmissionWalk:
         """A row, and a state that it and what is left of it lead to a pair."""
         row = []
         for place in range(len(told) - 1, -1, -1):
-            pair, command = self.source_of(pair, self.way[place], told[place])
+            pair, command = self.source_of(pair, self.passed[place], told[place])
             row.append(command)
         return tuple(row[::-1]), pair // self.machine.states
 
@@ -95,7 +95,7 @@ def omission_harm(machine, omission):
     """A pair (filling, state) that shows that an omission matters, or None."""
     told = checked_omission(omission)
     walk = OmissionWalk(machine, told)
-    for pair in walk.lots[walk.way[-1]]:
+    for pair in walk.lots[walk.passed[-1]]:
         if pair // machine.states != pair % machine.states:
             return walk.harm_to(pair, told)
     return None

@@ -248,6 +248,52 @@ INTERFACE = {
         "shortened": ("machine", "row"),
         "effect_by_ends": ("machine", "beginning", "length", "end"),
     },
+    "sides": {
+        "side_by_side": ("one", "other"),
+        "combined": ("one", "other"),
+        "taking_turns": ("one", "other"),
+        "go_together": ("machine",),
+    },
+    "macros": {
+        "with_macros": ("machine", "rows"),
+        "macro_triple": ("triple", "length"),
+    },
+    "views": {
+        "is_view": ("machine", "value"),
+        "viewed": ("machine", "view"),
+        "merging_view": ("machine", "one", "other"),
+        "split_views": ("machine",),
+        "part": ("machine", "start"),
+    },
+    "ends": {
+        "mirrored": ("machine",),
+        "delayed": ("machine", "many"),
+    },
+    "builders": {
+        "first_memory": ("first",),
+        "last_memory": ("last",),
+        "wheel": ("step",),
+        "built": ("triple",),
+        "state_bound": ("triple",),
+    },
+    "mending": {
+        "without": ("machine", "barred"),
+        "serves": ("triple", "wish"),
+        "is_mended": ("machine", "wish", "barred"),
+        "least_mends": ("machine", "wish"),
+        "reasons": ("machine", "wish", "barred"),
+    },
+    "logs": {
+        "Log": ("machine", "start"),
+    },
+    "sheets": {
+        "sheet_holds": ("value",),
+        "sheet": ("kind", "question"),
+        "wrong_sheets": ("values",),
+    },
+    "desk": {
+        "Desk": (),
+    },
 }
 
 
@@ -266,6 +312,11 @@ class InterfaceTest(unittest.TestCase):
         for module_name, name in (("machines", "Machine"), ("questions", "Question"), ("claims", "Claims")):
             found = getattr(importlib.import_module(f"endsandround.{module_name}"), name)
             self.assertIn("__eq__", vars(found))
+        log = importlib.import_module("endsandround.logs").Log
+        for name in ("__len__", "enter", "reorder", "entered", "row", "state", "way", "drifted", "never_matters", "undo",
+                     "within"):
+            self.assertIn(name, vars(log))
+        self.assertIn("say", vars(importlib.import_module("endsandround.desk").Desk))
 
 
 if __name__ == "__main__":

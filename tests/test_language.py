@@ -29,9 +29,9 @@ BARRED = set(
 )
 AT_ONCE = {"zip", "range", "enumerate", "reversed"}
 TAKERS = {"list", "tuple", "dict", "sorted", "sum", "any", "all", "enumerate", "zip", "min", "max", "len",
-          "permutations"}
+          "permutations", "combinations"}
 NODES_NOT_USED = (
-    ast.Global, ast.AsyncFunctionDef, ast.AsyncFor, ast.AsyncWith, ast.Await, ast.Div, ast.MatMult, ast.Try,
+    ast.Global, ast.AsyncFunctionDef, ast.AsyncFor, ast.AsyncWith, ast.Await, ast.Div, ast.MatMult,
     ast.Import, ast.Yield, ast.YieldFrom, ast.AnnAssign,
 )
 
@@ -159,6 +159,18 @@ class LanguageTest(unittest.TestCase):
                 if isinstance(node, ast.Subscript):
                     stars = [part for part in ast.walk(node.slice) if isinstance(part, ast.Starred)]
                     self.assertEqual(stars, [], (name, node.lineno))
+
+    def test_tries(self):
+        for name, tree in TREES.items():
+            for node in ast.walk(tree):
+                if not isinstance(node, ast.Try):
+                    continue
+                for handler in node.handlers:
+                    self.assertIsInstance(handler.type, ast.Name, name)
+                    self.assertIn(handler.type.id, own_names(TREES["errors"]), (name, node.lineno))
+                for part in node.finalbody:
+                    self.assertIsInstance(part, ast.Assign, (name, part.lineno))
+                    self.assertIsInstance(part.value, (ast.Name, ast.Attribute), (name, part.lineno))
 
     def test_calls(self):
         for name, tree in TREES.items():

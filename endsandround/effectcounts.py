@@ -74,18 +74,18 @@ class KindWalk:
 
     def step_over(self, place):
         """Goes on behind a place; some two beginnings of unlike kinds but with one effect, or None."""
-        kinds = {}
+        found = {}
         ways = {}
         for number, kind in self.kinds.items():
             for command, target in enumerate(self.effects.with_command(number)):
                 onward = self.kind_with(kind, place, command)
-                if target not in kinds:
-                    kinds[target] = onward
+                if target not in found:
+                    found[target] = onward
                     ways[target] = (number, command)
-                elif kinds[target] != onward:
+                elif found[target] != onward:
                     ahead, entry = ways[target]
                     return self.row_to(ahead) + (entry,), self.row_to(number) + (command,)
-        self.kinds = kinds
+        self.kinds = found
         self.ways.append(ways)
         return None
 

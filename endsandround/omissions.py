@@ -2,8 +2,11 @@
 
 from endsandround.common import first_not_below, is_sequence
 from endsandround.errors import InvalidReordering, Refused
+from endsandround.layers import behind, settled_behind, settled_joined
 from endsandround.machines import are_parted, is_row_and_state
+from endsandround.omissioncourt import omission_numbers
 from endsandround.reorderings import idle
+from endsandround.slips import never_counts, slip
 
 
 def checked_omission(value):
@@ -37,8 +40,62 @@ def then_omitted(one, other):
     return tuple(both)
 
 
+def omission_harm(machine, omission):
+    """A pair (filling, state) that shows that an omission matters, or None."""
+    told = checked_omission(omission)
+    out = [place for place, number in enumerate(told) if number == 1]
+    if not out:
+        return None
+    place = _counting_place(machine, len(told), out)
+    if place is not None:
+        return _harm_by_slip(machine, told, place)
+    # So leaving out a single entry would never matter but by how many are left: there are numbers of omissions.
+    if len(out) % omission_numbers(machine)[2] != 0:
+        return _harm_by_number(machine, told, len(out))
+    if len(told) - len(out) >= settled_behind(machine) + settled_joined(machine):
+        return None
+    return _walked_harm(machine, told)
+
+
+def _counting_place(machine, length, out):
+    # Some place left out at which the command counts, or None. What holds with some before and after holds with more,
+    # and no more than what settles matters: so if any place counts, one of these does.
+    u = settled_behind(machine)
+    v = settled_joined(machine)
+    for place in [out[0], out[-1]] + [place for place in out if place < u and length - 1 - place < v]:
+        if not never_counts(machine, place, length - 1 - place):
+            return place
+    return None
+
+
+def _harm_by_slip(machine, told, place):
+    # Two rows that differ only there have unlike effects, but the same is left of both; so it is unlike one of them.
+    filling, command, state = slip(machine, place, len(told) - 1 - place)
+    if are_parted(machine, state, filling, omitted(filling, told)):
+        return filling, state
+    return filling[:place] + (command,) + filling[place + 1:], state
+
+
+def _harm_by_number(machine, told, many):
+    # Whatever the commands are, some state is led to another one by so many fewer.
+    row = (0,) * len(told)
+    for state in behind(machine, settled_behind(machine)):
+        if are_parted(machine, state, row, row[many:]):
+            return row, state
+    return None
+
+
+def _walked_harm(machine, told):
+    # Where no command that is left out counts, it may as well be 0.
+    walk = OmissionWalk(machine, told)
+    for pair in walk.lots[walk.passed[-1]]:
+        if pair // machine.states != pair % machine.states:
+            return walk.harm_to(pair, told)
+    return None
+
+
 class OmissionWalk:
-    """To which pairs of states rows lead, and what is left of them, place by place.
+    """To which pairs of states rows lead, and what is left of them, place by place, with 0 for all that is left out.
 
     A pair (s, t) is the number s * states + t. `lots` are the lots of pairs that were met, `passed` tells which of them
     stands ahead of each place, and at the end.
@@ -49,13 +106,13 @@ class OmissionWalk:
         self.lots = []
         self.numbers = {}
         self.passed = [self.number_of([state * machine.states + state for state in range(machine.states)])]
-        behind = {}
+        targets = {}
         for out in told:
             # Like lots come again and again in long rows.
             step = (self.passed[-1], out)
-            if step not in behind:
-                behind[step] = self.number_of([t for pair in self.lots[step[0]] for t in self.led(pair, out)])
-            self.passed.append(behind[step])
+            if step not in targets:
+                targets[step] = self.number_of([t for pair in self.lots[step[0]] for t in self.led(pair, out)])
+            self.passed.append(targets[step])
 
     def number_of(self, pairs):
         """The number of the lot of some pairs."""
@@ -66,12 +123,12 @@ class OmissionWalk:
         return self.numbers[lot]
 
     def led(self, pair, out):
-        """Where each command leads a pair if it is left out, or if it is not."""
+        """Where a pair is led: by each command, or, if this is left out, by the command 0."""
         states = self.machine.states
         s, t = divmod(pair, states)
         targets = self.machine.steps[s]
         if out == 1:
-            return [target * states + t for target in targets]
+            return [targets[0] * states + t]
         return [target * states + other for target, other in zip(targets, self.machine.steps[t])]
 
     def harm_to(self, pair, told):
@@ -89,16 +146,6 @@ class OmissionWalk:
             if pair in targets:
                 return source, targets.index(pair)
         return None
-
-
-def omission_harm(machine, omission):
-    """A pair (filling, state) that shows that an omission matters, or None."""
-    told = checked_omission(omission)
-    walk = OmissionWalk(machine, told)
-    for pair in walk.lots[walk.passed[-1]]:
-        if pair // machine.states != pair % machine.states:
-            return walk.harm_to(pair, told)
-    return None
 
 
 def is_omission_harm(machine, omission, value):

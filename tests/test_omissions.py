@@ -3,8 +3,12 @@
 from itertools import product
 from random import Random
 
+from endsandround.builders import built
+from endsandround.ends import delayed
 from endsandround.errors import InvalidReordering, Refused
+from endsandround.freest import free_machine
 from endsandround.machines import Machine
+from endsandround.omissioncourt import omission_numbers
 from endsandround.omissions import (
     checked_omission,
     is_allowed_omission,
@@ -90,6 +94,28 @@ class HarmTest(Case):
             for many in range(5 if machine.commands < 3 else 4):
                 for omission in omissions(many):
                     self.check(machine, omission, brute.is_harmless_omission(machine, omission))
+
+    def test_short_rows_of_which_few_entries_are_left(self):
+        """Allowed by the numbers of omissions, but not enough is left to be sure."""
+        harmless = {True: 0, False: 0}
+        for before, longest in product((1, 2, 3), repeat=2):
+            memory = brute.short_memory(before, longest)
+            for machine in (Machine(2, memory), brute.beside(memory, brute.chain(3), [(1, 1), (0, 0)])):
+                _, _, block = omission_numbers(machine)
+                for omission in omissions(6):
+                    if sum(omission) > 0 and sum(omission) % block == 0:
+                        wanted = brute.is_harmless_omission(machine, omission)
+                        harmless[wanted] += 1
+                        self.check(machine, omission, wanted)
+        self.assertGreater(min(harmless.values()), 100)
+
+    def test_great_machines(self):
+        counter = free_machine((0, 0, 1), 2, 400)
+        self.check(counter, (0, 0, 1) * 666, False)
+        memory = built((90, 90, 1))
+        self.check(memory, (0,) * 90 + (1,) * 1820 + (0,) * 90, True)
+        self.check(memory, (0,) * 90 + (1,) * 1821 + (0,) * 89, False)
+        self.check(delayed(Machine(2, brute.last_memory(6)), 7), (0,) * 500 + (1,) * 1000 + (0,) * 500, True)
 
     def test_checker_as_by_all_rows(self):
         for machine in (*brute.random_machines(593, 15, commands=(1, 2), states=(1, 2, 3)), FLIP):
